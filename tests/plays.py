@@ -51,6 +51,11 @@ def plans(ground, inside, who):
     return itertools.product(*choices)
 
 
+def drawn_moves(chance, ground):
+    """A move for each place, whoever has it."""
+    return tuple(chance.choice(place[3]) for place in ground)
+
+
 def ways_on(ground, who, moves, number):
     """Where the play may go on from a place while who goes by the moves and the other one as it likes."""
     if ground[number][0] == who:
@@ -83,6 +88,21 @@ def come_to(edges, number, allowed):
 
 def has_ring_through(edges, number, allowed):
     return number in allowed and number in come_to(edges, number, allowed)
+
+
+def rings_from(edges, way):
+    """All rings that close at the first place of a way and go on by it, no place twice and none less than the first."""
+    for goal in edges[way[-1]]:
+        if goal == way[0]:
+            yield way
+        elif goal > way[0] and goal not in way:
+            yield from rings_from(edges, way + (goal,))
+
+
+def all_rings(edges):
+    """Each ring once, from its least place on."""
+    for number in edges:
+        yield from rings_from(edges, (number,))
 
 
 def edges_by(ground, who, places, moves):

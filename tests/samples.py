@@ -8,6 +8,15 @@ FOUR = (
     (1, 0, 10, (2,)),
     (0, 5, -12, (0, 2)),
 )
+# By marks 0 wins from 0 to 3, 1 from 4 and 5; each winner has no other moves that win, so they may be asked for.
+SIX = (
+    (0, 4, 0, (1,)),
+    (1, 3, 0, (0, 2)),
+    (0, 1, 0, (2, 3)),
+    (0, 2, 0, (2,)),
+    (1, 5, 0, (0, 5)),
+    (0, 0, 0, (4,)),
+)
 
 
 def circle(count):
@@ -46,6 +55,25 @@ HARD = (
         (1, 8, 0, (6, 21)), (1, 10, 0, (0, 10, 11)), (0, 11, 0, (9, 12, 23)), (0, 5, 0, (4, 8, 22)),
         (1, 4, 0, (4, 5, 22)), (0, 1, 0, (6, 8, 22)), (1, 0, 0, (11, 21, 22)), (1, 0, 0, (7, 11, 23)),
     ),
+)
+
+
+def all_seeing(who, marks):
+    return tuple((who, mark, 0, tuple(range(len(marks)))) for mark in marks)
+
+
+def through_a_chain(who, marks, length):
+    """Places that all lead to a chain of places, the last of which leads back to them all."""
+    first = len(marks)
+    chain = tuple((who, 0, 0, (first + k,)) for k in range(1, length))
+    return tuple((who, mark, 0, (first,)) for mark in marks) + chain + ((who, 0, 0, tuple(range(first))),)
+
+
+# The measures go through each of 15,625, of 12,800 and of 6,400 rows of counts, at several places.
+HARD_TO_MEASURE = (
+    all_seeing(0, (1, 3, 5, 7, 9, 11) * 4),
+    all_seeing(0, (11, 9, 7, 5, 3, 1) * 3 + (5, 3, 1, 1, 1, 1)),
+    through_a_chain(0, (1, 3, 5, 7, 9, 11) * 3 + (1, 3), 4),
 )
 
 
@@ -92,3 +120,11 @@ def only_plain(case, thing):
     if isinstance(thing, tuple):
         for part in thing:
             only_plain(case, part)
+
+
+def told_twice(case, tell, handed):
+    """Asked again, and in another order, the same is told of each row of things that is handed in, and it stays so."""
+    before = repr(handed)
+    first = [tell(*row) for row in handed]
+    case.assertEqual([tell(*row) for row in reversed(handed)], first[::-1])
+    case.assertEqual(repr(handed), before)

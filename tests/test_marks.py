@@ -10,17 +10,7 @@ from duelground.marks import won
 from tests.plays import (
     drawn, drawn_grounds, drawn_some, edges_from, edges_of_both, exchanged_by_hand, lost_by_marks, plans,
 )
-from tests.samples import FOUR, GROUNDS, HARD, ONE, TWO, circle, full, only_plain
-
-# Each move that is told on it is the one that wins, so it may be asked for.
-SIX = (
-    (0, 4, 0, (1,)),
-    (1, 3, 0, (0, 2)),
-    (0, 1, 0, (2, 3)),
-    (0, 2, 0, (2,)),
-    (1, 5, 0, (0, 5)),
-    (0, 0, 0, (4,)),
-)
+from tests.samples import FOUR, GROUNDS, HARD, ONE, SIX, TWO, circle, full, only_plain
 
 
 def won_by_plans(ground, who):
