@@ -22,14 +22,37 @@ def drawn_some(chance, among):
     return tuple(number for number in among if chance.randint(0, 1))
 
 
-def drawn_whole_part(chance, ground):
-    """Some places, less those that lead to none of the rest, until there are none of these."""
-    part = drawn_some(chance, range(len(ground)))
+def drawn_most(chance, among):
+    """All but one or a few."""
+    left_out = chance.sample(among, min(len(among), chance.randint(1, 3)))
+    return tuple(number for number in among if number not in left_out)
+
+
+def lessened(part, is_left):
+    """The part less those of its places that can't stay in what is left of it, until there are none of these."""
     while True:
-        fewer = tuple(number for number in part if set(ground[number][3]) & set(part))
+        fewer = tuple(number for number in part if is_left(number, part))
         if fewer == part:
             return part
         part = fewer
+
+
+def drawn_whole_part(chance, ground):
+    part = drawn_some(chance, range(len(ground)))
+    return lessened(part, lambda number, left: set(ground[number][3]) & set(left))
+
+
+def part_kept(ground, who, part):
+    """The greatest part of some places that who can keep the play in: the other one's places lead only into it."""
+    def is_left(number, left):
+        ways = [goal in left for goal in ground[number][3]]
+        return any(ways) if ground[number][0] == who else all(ways)
+
+    return lessened(part, is_left)
+
+
+def part_of_winner(winners, who):
+    return tuple(number for number, winner in enumerate(winners) if winner == who)
 
 
 def exchanged_by_hand(ground):

@@ -128,3 +128,12 @@ def told_twice(case, tell, handed):
     first = [tell(*row) for row in handed]
     case.assertEqual([tell(*row) for row in reversed(handed)], first[::-1])
     case.assertEqual(repr(handed), before)
+
+
+def refused_with(case, kind, tell, *handed):
+    """Just this refusal comes, not one below it, and what is handed in stays."""
+    before = repr(handed)
+    with case.assertRaises(kind, msg=before) as caught:
+        tell(*handed)
+    case.assertIs(type(caught.exception), kind)
+    case.assertEqual(repr(handed), before)

@@ -8,18 +8,14 @@ from duelground.checking import holds
 from duelground.errors import GroundError, NoMoves, NoPart
 from duelground.marks import won
 from tests.plays import (
-    all_rings, all_some, drawn_grounds, drawn_moves, drawn_some, edges_by, exchanged_by_hand, lost_by_marks, plans,
-    stays,
+    all_rings, all_some, drawn_grounds, drawn_moves, drawn_some, edges_by, exchanged_by_hand, lost_by_marks,
+    part_of_winner, plans, stays,
 )
 from tests.samples import FOUR, GROUNDS, HARD, ONE, SIX, TWO, circle, full, replaced, spoiled, strangers, told_twice
 
 # The moves by which 0 and 1 win on SIX.
 ZERO = (1, None, 3, 2, None, None)
 ONES = (None, None, None, None, 5, None)
-
-
-def part_of_winner(winners, who):
-    return tuple(number for number, winner in enumerate(winners) if winner == who)
 
 
 def holds_by_rings(ground, who, places, moves):
